@@ -107,6 +107,9 @@ func TestP261Make(t *testing.T) {
 			t.Errorf("%d: %v", i, ok)
 		}
 	}
+	if got, ok := Write(c, d, make([]byte, 64), 9); !ok || same(got, d) {
+		t.Error("64 bytes")
+	}
 	if got, ok := Write(c, d, make([]byte, 65), 9); ok || !same(got, d) {
 		t.Error("65 bytes")
 	}
@@ -258,6 +261,15 @@ func number(b []byte) int {
 }
 
 func (w *world) step(r *rand.Rand) string {
+	ahead, was := w.d, slices.Clone(w.d)
+	wrong := w.befall(r)
+	if !same(ahead, was) {
+		return "disks that were handed in are changed"
+	}
+	return wrong
+}
+
+func (w *world) befall(r *rand.Rand) string {
 	s := r.Intn(6)
 	switch r.Intn(10) {
 	case 0, 1, 2:

@@ -75,6 +75,21 @@ func TestP41Errors(t *testing.T) {
 	}
 }
 
+// P4.1: of one disk two may come to be, though its rows have room behind.
+func TestP41Apart(t *testing.T) {
+	d := api.Disk{Loose: append(make([]api.Page, 0, 9), page(1, 1))}
+	a, _ := Write(d, 2, []byte{2})
+	b, _ := Write(d, 3, []byte{3})
+	if len(d.Loose) != 1 || a.Loose[1].At != 2 || b.Loose[1].At != 3 || d.Loose[:2][1].At != 0 {
+		t.Error(a, b)
+	}
+	data := []byte{7}
+	a, _ = Write(d, 2, data)
+	if data[0] = 8; a.Loose[1].Data[0] != 7 {
+		t.Error("bytes that were handed in are kept")
+	}
+}
+
 // P4.1: the example; laid pages stand in order, the last of each place.
 func TestP41Lay(t *testing.T) {
 	d, _ := Write(New(), 3, []byte{1})

@@ -111,6 +111,10 @@ func TestP111Done(t *testing.T) {
 	if o := hold.Orphans(g.S.Now); len(o) != 0 || len(g.Holds) != 0 {
 		t.Error("no hold any more", o)
 	}
+	g = after(t, f, api.Op{Kind: api.Unlink, Path: "/d/f"}, api.Op{Kind: api.Unlink, Path: "/d/g"}, api.Op{Kind: api.Close, Client: 1, Handle: 2})
+	if o := hold.Orphans(g.S.Now); len(o) != 0 || len(g.Holds) != 0 || len(g.S.Now.Nodes) != 4 || !Right(g) {
+		t.Error("closed, and held by nobody", o)
+	}
 	if g = after(t, f, write(1, 2, 0, "abc")); !Same(f, g) {
 		t.Error("the same bytes")
 	}

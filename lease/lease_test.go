@@ -68,7 +68,7 @@ func TestP221Ask(t *testing.T) {
 		{had, 9, ls(1, 5, 2, 0, 8, 0), 1, []api.Lease{ls(1, 5, 2, 0, 8, 12)}, true, nil}, {had, 9, ls(1, 5, 1, 0, 8, 0), 1, []api.Lease{had[0], ls(1, 5, 1, 0, 8, 12)}, true, nil}, {[]api.Lease{had[0], ls(2, 5, 1, 8, 9, 50)}, 9, ls(1, 5, 2, 0, 8, 0), 1, []api.Lease{ls(2, 5, 1, 8, 9, 50), ls(1, 5, 2, 0, 8, 12)}, true, nil},
 		{[]api.Lease{ls(4, 5, 1, 0, 8, 13), ls(2, 5, 1, 0, 8, 13), ls(4, 5, 1, 3, 8, 13), ls(6, 5, 1, 8, 9, 13), ls(7, 5, 1, 0, 1, 10)}, 10, ls(3, 5, 2, 0, 8, 0), 1, []api.Lease{ls(4, 5, 1, 0, 8, 13), ls(2, 5, 1, 0, 8, 13), ls(4, 5, 1, 3, 8, 13), ls(6, 5, 1, 8, 9, 13)}, false, []int{2, 4}},
 		{many(64), 9, ls(3, 8, 2, 0, 1, 0), 1, many(64), false, nil}, {many(64), 9, ls(3, 7, 2, 5, 6, 0), 1, append(slices.Delete(many(64), 5, 6), ls(3, 7, 2, 5, 6, 12)), true, nil}, {many(63), 9, ls(3, 8, 2, 0, 1, 0), 1, append(many(63), ls(3, 8, 2, 0, 1, 12)), true, nil}, {many(64), 9, ls(4, 7, 2, 0, 1, 0), 1, many(64), false, []int{3}},
-		{nil, 9, epoch, 1, []api.Lease{stay}, true, nil},
+		{nil, 9, epoch, 1, []api.Lease{stay}, true, nil}, {[]api.Lease{ls(2, 5, 1, 0, 8, 50), ls(1, 6, 1, 0, 8, 50)}, 9, ls(1, 5, 1, 0, 8, 0), 1, []api.Lease{ls(2, 5, 1, 0, 8, 50), ls(1, 6, 1, 0, 8, 50), ls(1, 5, 1, 0, 8, 12)}, true, nil},
 	} {
 		was := slices.Clone(x.l)
 		got, ok, who := Ask(x.l, x.now, x.q, x.many)

@@ -71,6 +71,12 @@ func TestP131Put(t *testing.T) {
 	if got, ok := Put(many(500), 400, 1, append(many(98), terms(2, 2)...)); !ok || len(got) != 500 {
 		t.Error(ok, len(got))
 	}
+	if got, ok := Put([]api.Entry{{Term: 1, Data: []byte{5}}}, 0, 0, []api.Entry{{Term: 2, Data: []byte{5}}}); !ok || len(got) != 1 || got[0].Term != 2 {
+		t.Error("the same bytes of another term", got, ok)
+	}
+	if Same([]api.Entry{{Term: 1}}, []api.Entry{{Term: 2}}) {
+		t.Error("entries of unlike terms are the same")
+	}
 	room := append(make([]api.Entry, 0, 9), l...)
 	Put(room, 3, 2, terms(7))
 	if room[:4][3].Term != 0 {

@@ -49,6 +49,10 @@ func TestP281Rows(t *testing.T) {
 			t.Errorf("%d: %v", i, x[0])
 		}
 	}
+	plan := []api.Job{a, b}
+	if Renew([]api.Job{jb(1, 4, 3, 2)}, plan); !slices.Equal(plan, []api.Job{a, b}) {
+		t.Error("a plan that was handed in is changed")
+	}
 	zero := func(j api.Job) api.Job { j.Left = 0; return j }
 	for budget, want := range map[int][2][]api.Job{
 		6: {{jb(2, 1, 0, 3)}, {zero(a)}}, 0: {{a, b}, nil}, -9: {{a, b}, nil}, math.MinInt: {{a, b}, nil}, 3: {{jb(1, 4, 3, 1), b}, nil}, 4: {{b}, {zero(a)}}, 8: {{jb(2, 1, 0, 1)}, {zero(a)}}, 9: {nil, {zero(a), zero(b)}}, math.MaxInt: {nil, {zero(a), zero(b)}},

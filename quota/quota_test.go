@@ -98,6 +98,18 @@ func TestP91Domain(t *testing.T) {
 	}
 }
 
+// P9.1: from the deepest directory there may be, up to the root.
+func TestP91Deep(t *testing.T) {
+	g := tree.New()
+	for i := range 12 {
+		g, _, _ = tree.Add(g, i+1, "d", api.Dir)
+	}
+	l := []api.Quota{q(1, 12, 0)}
+	if Domain(g, l, 13) != 1 || May(g, l, 13, 1, 0) != api.ErrQuota || May(g, l, 13, 0, 0) != api.OK || !Right(g, l) {
+		t.Error(Domain(g, l, 13))
+	}
+}
+
 // P9.1: May asks all quotas from a directory up.
 func TestP91May(t *testing.T) {
 	g := grown()

@@ -61,7 +61,7 @@ func TestP151Right(t *testing.T) {
 		{stands(), func(s *api.Seat) { s.Log[0].Term = 0 }, false}, {stands(), func(s *api.Seat) { s.Log[1].Term = 5 }, false}, {stands(), func(s *api.Seat) { s.Log[0].Term = 4 }, false}, {stands(), func(s *api.Seat) { s.Log[0].Data = long }, false}, {stands(), func(s *api.Seat) { s.Log[0].Data = long[:200] }, true}, {stands(), func(s *api.Seat) { s.Log = slices.Repeat([]api.Entry{e(1, "")}, 500) }, true}, {stands(), func(s *api.Seat) { s.Log = slices.Repeat([]api.Entry{e(1, "")}, 501) }, false},
 		{stands(), func(s *api.Seat) { s.Commit = 3 }, false}, {stands(), func(s *api.Seat) { s.Commit = -1 }, false}, {stands(), func(s *api.Seat) { s.Votes = []int{1, 2} }, true}, {stands(), func(s *api.Seat) { s.Votes = []int{2, 1} }, false}, {stands(), func(s *api.Seat) { s.Votes = []int{2, 9} }, false}, {stands(), func(s *api.Seat) { s.Votes = []int{1} }, false}, {stands(), func(s *api.Seat) { s.Votes = nil }, false},
 		{stands(), func(s *api.Seat) { s.Term, s.Log, s.Commit = 0, nil, 0 }, false}, {stands(), func(s *api.Seat) { s.Voted = 1 }, false}, {stands(), func(s *api.Seat) { s.Voted = -1 }, false}, {stands(), func(s *api.Seat) { s.Next = []int{1} }, false}, {stands(), func(s *api.Seat) { s.Match = []int{1} }, false},
-		{leads(), func(s *api.Seat) { s.Voted = 1 }, false}, {leads(), func(s *api.Seat) { s.Votes = []int{2} }, false}, {leads(), func(s *api.Seat) { s.Next = s.Next[1:] }, false}, {leads(), func(s *api.Seat) { s.Match = s.Match[:4] }, false}, {leads(), func(s *api.Seat) { s.Match[0] = -1 }, false}, {leads(), func(s *api.Seat) { s.Match[0], s.Next[0] = 3, 4 }, true}, {leads(), func(s *api.Seat) { s.Match[0], s.Next[0] = 4, 5 }, false},
+		{leads(), func(s *api.Seat) { s.Voted = 1 }, false}, {leads(), func(s *api.Seat) { s.Votes = []int{2} }, false}, {leads(), func(s *api.Seat) { s.Next = s.Next[1:] }, false}, {leads(), func(s *api.Seat) { s.Match = s.Match[:4] }, false}, {leads(), func(s *api.Seat) { s.Next = append(s.Next, 4) }, false}, {leads(), func(s *api.Seat) { s.Match = append(s.Match, 0) }, false}, {leads(), func(s *api.Seat) { s.Match[0] = -1 }, false}, {leads(), func(s *api.Seat) { s.Match[0], s.Next[0] = 3, 4 }, true}, {leads(), func(s *api.Seat) { s.Match[0], s.Next[0] = 4, 5 }, false},
 		{leads(), func(s *api.Seat) { s.Match[0], s.Next[0] = 2, 2 }, false}, {leads(), func(s *api.Seat) { s.Next[0] = 5 }, false}, {leads(), func(s *api.Seat) { s.Match[1] = 2 }, false}, {leads(), func(s *api.Seat) {
 			s.Term, s.Log, s.Commit, s.Next, s.Match = 0, nil, 0, []int{1, 1, 1, 1, 1}, make([]int, 5)
 		}, false},
@@ -187,6 +187,7 @@ func TestP151Hear(t *testing.T) {
 		out  []api.Msg
 	}{
 		{stands(), msg(1, 2, 1, "", 3, 9, 9), func(s *api.Seat) {}, []api.Msg{msg(2, 1, 2, "", 4, 0)}}, {stands(), msg(1, 2, 1, "", 5, 3, 1), func(s *api.Seat) { s.Term, s.Voted, s.Role, s.Votes = 5, -1, api.Follow, nil }, []api.Msg{msg(2, 1, 2, "", 5, 0)}},
+		{stands(), msg(1, 2, 1, "", 5, 4, 0), func(s *api.Seat) { s.Term, s.Voted, s.Role, s.Votes = 5, 1, api.Follow, nil }, []api.Msg{msg(2, 1, 2, "", 5, 1)}}, {stands(), msg(1, 2, 1, "", 5, 1, 9), func(s *api.Seat) { s.Term, s.Voted, s.Role, s.Votes = 5, -1, api.Follow, nil }, []api.Msg{msg(2, 1, 2, "", 5, 0)}},
 		{stands(), msg(3, 2, 2, "", 4, 1), func(s *api.Seat) { s.Votes = []int{2, 3} }, nil}, {stands(), msg(1, 2, 2, "", 4, 1), func(s *api.Seat) { s.Votes = []int{1, 2} }, nil}, {stands(), msg(3, 2, 2, "", 4, 0), func(s *api.Seat) {}, nil}, {stands(), msg(3, 2, 2, "", 3, 1), func(s *api.Seat) {}, nil}, {stands(), msg(3, 2, 2, "", 5, 1), func(s *api.Seat) { s.Term, s.Voted, s.Role, s.Votes = 5, -1, api.Follow, nil }, nil}, {fresh(), msg(3, 2, 2, "", 0, 1), func(s *api.Seat) {}, nil}, {leads(), msg(3, 2, 2, "", 4, 1), func(s *api.Seat) {}, nil},
 		{stands(), msg(1, 2, 3, "", 3, 0, 0, 2), func(s *api.Seat) {}, []api.Msg{msg(2, 1, 4, "", 4, 0, 0)}}, {leads(), msg(1, 2, 3, "", 4, 0, 0, 2), func(s *api.Seat) {}, nil}, {stands(), msg(1, 2, 3, "", 4, 2, 3, 2), func(s *api.Seat) { s.Role, s.Votes, s.Commit = api.Follow, nil, 2 }, []api.Msg{msg(2, 1, 4, "", 4, 1, 2)}}, {stands(), msg(1, 2, 3, "", 4, 2, 3, 0), func(s *api.Seat) { s.Role, s.Votes = api.Follow, nil }, []api.Msg{msg(2, 1, 4, "", 4, 1, 2)}},
 		{stands(), msg(1, 2, 3, "z", 4, 1, 1, 9, 4, 1), func(s *api.Seat) {
@@ -200,8 +201,13 @@ func TestP151Hear(t *testing.T) {
 		want := x.s
 		want.Next, want.Match = slices.Clone(x.s.Next), slices.Clone(x.s.Match)
 		x.with(&want)
+		x.s.Votes = append(make([]int, 0, 9), x.s.Votes...)
+		was := fmt.Sprint(x.s, x.s.Votes[:cap(x.s.Votes)])
 		if got, out := Hear(x.s, x.m); !same(got, want) || !sameMsgs(out, x.out) {
 			t.Errorf("%d: %v, %v", i, got, out)
+		}
+		if fmt.Sprint(x.s, x.s.Votes[:cap(x.s.Votes)]) != was {
+			t.Errorf("%d: a seat that was handed in is changed", i)
 		}
 	}
 }
@@ -236,7 +242,7 @@ func TestP151NotFor(t *testing.T) {
 	for i, m := range []api.Msg{
 		msg(1, 3, 1, "", 9, 0, 0), msg(2, 2, 1, "", 9, 0, 0), msg(9, 2, 1, "", 9, 0, 0), msg(1, 2, 0, "", 9, 0, 0), msg(1, 2, 5, "", 9, 0, 0), msg(1, 2, 1, ""), msg(1, 2, 1, "", 9, 0), msg(1, 2, 1, "", 9, 0, 0, 0), msg(1, 2, 1, "x", 9, 0, 0), msg(1, 2, 1, "", -1, 0, 0), msg(1, 2, 1, "", 1<<40+1, 0, 0), msg(1, 2, 1, "", 9, -1, 0), msg(1, 2, 1, "", 9, 0, -1),
 		msg(1, 2, 2, "", 9), msg(1, 2, 2, "", 9, 2), msg(1, 2, 2, "", 9, -1), msg(1, 2, 2, "", 9, 1, 1), msg(1, 2, 2, "x", 9, 1), msg(1, 2, 4, "", 9, 1), msg(1, 2, 4, "", 9, 2, 0), msg(1, 2, 4, "", 9, 1, -1), msg(1, 2, 4, "x", 9, 1, 1), msg(1, 2, 4, "", 9, 1, 1, 1),
-		msg(1, 2, 3, "", 9, 0, 0), msg(1, 2, 3, "", 9, 0, 0, 0, 1), msg(1, 2, 3, "", 9, -1, 0, 0), msg(1, 2, 3, "", 9, 0, -1, 0), msg(1, 2, 3, "", 9, 0, 0, -1), msg(1, 2, 3, "x", 9, 0, 0, 0), msg(1, 2, 3, "x", 9, 0, 0, 0, 0, 1), msg(1, 2, 3, "x", 9, 0, 0, 0, 10, 1), msg(1, 2, 3, "xy", 9, 0, 0, 0, 3, 1, 2, 1), msg(1, 2, 3, "x", 9, 1, 3, 0, 2, 1), msg(1, 2, 3, "x", 9, 0, 0, 0, 1, 2), msg(1, 2, 3, "xy", 9, 0, 0, 0, 1, 1), msg(1, 2, 3, "x", 9, 0, 0, 0, 1, -1, 1, 2), msg(1, 2, 3, string(big), 9, 0, 0, 0, 1, 201), msg(1, 2, 3, "", many...),
+		msg(1, 2, 3, "", 9), msg(1, 2, 3, "", 9, 0), msg(1, 2, 3, "", 9, 0, 0), msg(1, 2, 3, "", 9, 0, 0, 0, 1), msg(1, 2, 3, "", 9, -1, 0, 0), msg(1, 2, 3, "", 9, 0, -1, 0), msg(1, 2, 3, "", 9, 0, 0, -1), msg(1, 2, 3, "x", 9, 0, 0, 0), msg(1, 2, 3, "x", 9, 0, 0, 0, 0, 1), msg(1, 2, 3, "x", 9, 0, 0, 0, 10, 1), msg(1, 2, 3, "xy", 9, 0, 0, 0, 3, 1, 2, 1), msg(1, 2, 3, "x", 9, 1, 3, 0, 2, 1), msg(1, 2, 3, "x", 9, 0, 0, 0, 1, 2), msg(1, 2, 3, "xy", 9, 0, 0, 0, 1, 1), msg(1, 2, 3, "x", 9, 0, 0, 0, 1, -1, 1, 2), msg(1, 2, 3, string(big), 9, 0, 0, 0, 1, 201), msg(1, 2, 3, "", many...),
 	} {
 		for _, s := range []api.Seat{stands(), leads(), Back(stands())} {
 			if got, out := Hear(s, m); !same(got, s) || len(out) != 0 {

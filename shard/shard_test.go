@@ -31,7 +31,7 @@ func TestP181Right(t *testing.T) {
 		right bool
 	}{
 		{nil, false}, {New(0), true}, {New(7), true}, {some(), true}, {some()[1:], false}, {[]api.Piece{p("/", 8, 1)}, false}, {[]api.Piece{p("/", -1, 1)}, false}, {[]api.Piece{p("/", 0, 0)}, false}, {[]api.Piece{p("/", 0, 1<<40)}, true}, {[]api.Piece{p("/", 0, 1<<40+1)}, false},
-		{[]api.Piece{p("/", 0, 1), p("/b", 0, 1), p("/a", 0, 1)}, false}, {[]api.Piece{p("/", 0, 1), p("/a", 0, 1), p("/a", 0, 1)}, false}, {[]api.Piece{p("/", 0, 1), p("/a/", 0, 1)}, false}, {[]api.Piece{p("/", 0, 1), p("/a", 0, 1), p("a", 0, 1)}, false}, {many, false}, {many[:16], true}, {[]api.Piece{p("", 0, 1)}, false},
+		{[]api.Piece{p("/", 0, 1), p("/b", 0, 1), p("/a", 0, 1)}, false}, {[]api.Piece{p("/", 0, 1), p("/a", 0, 1), p("/a", 0, 1)}, false}, {[]api.Piece{p("/", 0, 1), p("/a/", 0, 1)}, false}, {[]api.Piece{p("/", 0, 1), p("/a", 0, 1), p("a", 0, 1)}, false}, {many, false}, {many[:16], true}, {[]api.Piece{p("/", 0, 1), p("/", 0, 1)}, false}, {[]api.Piece{p("", 0, 1)}, false},
 	} {
 		if Right(x.l) != x.right {
 			t.Errorf("%d: %v", i, !x.right)

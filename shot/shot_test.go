@@ -185,6 +185,27 @@ func TestP101Right(t *testing.T) {
 	if Right(s) {
 		t.Error("17 snapshots")
 	}
+	one, _, _ := Take(New(tree.New()), 1)
+	one.Tick = 1 << 40
+	if !Right(one) {
+		t.Error("the last tick")
+	}
+	if one.Tick, one.Taken[0].At = 0, 1; Right(one) {
+		t.Error("a snapshot of a later tick")
+	}
+	gone, _, _ := Take(New(add(tree.New(), 1, "f", api.File)), 1)
+	gone = Put(gone, un(gone.Now, 1, "f"))
+	if !Right(gone) || len(gone.Pasts) != 2 {
+		t.Fatal(gone)
+	}
+	gone.Pasts[0], gone.Pasts[1] = gone.Pasts[1], gone.Pasts[0]
+	if Right(gone) {
+		t.Error("the first ones out of order")
+	}
+	gone.Pasts[0], gone.Pasts[1] = gone.Pasts[1], gone.Pasts[0]
+	if gone.Pasts[1].Till = 2; Right(gone) {
+		t.Error("a past till a later tick")
+	}
 	if z := New(tree.New()); Right(api.Shots{Now: z.Now, Since: z.Since}) {
 		t.Error("Next 0")
 	}

@@ -147,6 +147,12 @@ func TestP71Limits(t *testing.T) {
 	if len(g.Nodes) != 196 || !Right(g) {
 		t.Fatal(len(g.Nodes))
 	}
+	if u, ino, err := Add(g, 2, "x", 1); !Same(u, g) || ino != 0 || err != api.ErrMany {
+		t.Error("beside an error", ino, err)
+	}
+	if u, y, err := Mv(g, 3, "f0", 2, "x"); !Same(u, g) || y != 0 || err != api.ErrMany {
+		t.Error("beside an error", y, err)
+	}
 	if addErr(g, 2, "x", 1) != api.ErrMany || lnErr(g, 5, 2, "x") != api.ErrMany || lnErr(g, 5, 1, "x") != api.OK {
 		t.Error("entries of a directory")
 	}
@@ -155,6 +161,9 @@ func TestP71Limits(t *testing.T) {
 	}
 	for i := range 4 {
 		g, _, _ = Add(g, 1, fmt.Sprint("g", i), api.Dir)
+	}
+	if u, ino, err := Add(g, 1, "x", 1); !Same(u, g) || ino != 0 || err != api.ErrMany {
+		t.Error("beside an error", ino, err)
 	}
 	if len(g.Nodes) != 200 || addErr(g, 1, "x", 1) != api.ErrMany || lnErr(g, 5, 1, "x") != api.OK || !Right(g) {
 		t.Error("nodes")
@@ -214,7 +223,14 @@ func TestP71Links(t *testing.T) {
 
 // wrongs are trees that are not right, each by one thing.
 func wrongs(t *testing.T) map[string]api.Tree {
-	out := map[string]api.Tree{"nothing": {}}
+	out := map[string]api.Tree{
+		"nothing":           {},
+		"a file alone":      {Nodes: []api.Node{{Ino: 1, Kind: api.File}}, Next: 2, Cookie: 1},
+		"another root":      {Nodes: []api.Node{{Ino: 2, Kind: api.Dir, Up: 2}}, Next: 3, Cookie: 1},
+		"no cookie":         {Nodes: New().Nodes, Next: 2},
+		"two of number 1":   {Nodes: []api.Node{New().Nodes[0], {Ino: 1, Kind: api.File}}, Next: 2, Cookie: 1},
+		"a number below it": {Nodes: []api.Node{New().Nodes[0], {Ino: 0, Kind: api.File}}, Next: 2, Cookie: 1},
+	}
 	wrong := func(as string, with func(g *api.Tree)) {
 		g := grown(t, "/a", "/a/f*", "/b", "/b/c")
 		g, _ = Ln(g, 3, 1, "l")

@@ -19,6 +19,9 @@ func TestEscape(t *testing.T) {
 	if back, ok := Unescape(Escape(all)); back != all || !ok {
 		t.Error(back)
 	}
+	if e := Escape("azAZ09/._-@[`{:"); e != "azAZ09/._-%40%5b%60%7b%3a" {
+		t.Error(e)
+	}
 	if e := Escape("aZ09/._- %\x00\xff="); e != "aZ09/._-%20%25%00%ff%3d" {
 		t.Error(e)
 	}

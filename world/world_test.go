@@ -102,6 +102,10 @@ func TestP311Nobody(t *testing.T) {
 	if v, ok := Do(w, api.Turn{Kind: api.TurnTime, User: 99, N: 1}); !ok || v.Real != 1 {
 		t.Error("time has no user")
 	}
+	for _, x := range []api.Turn{{Kind: api.TurnStore, N: 2}, {Kind: api.TurnRot}, {Kind: api.TurnPower}, {Kind: api.TurnUp}, {Kind: api.TurnMend, N: 1}, {Kind: api.TurnMend, N: 4096}, {Kind: api.TurnTime, N: 1000}} {
+		x.User = 99
+		must(t, w, x)
+	}
 	if v, ok := Do(w, api.Turn{Kind: api.TurnSweep, User: -1}); !ok || text(v) != text(w) {
 		t.Error("a sweep of nothing")
 	}
@@ -132,6 +136,7 @@ func TestP311Calls(t *testing.T) {
 		t.Error(text(d))
 	}
 	refused(t, d, turn(api.TurnTell, 1), turn(api.TurnServe, 1))
+	must(t, d, asks(1, api.Op{Kind: api.Look}), asks(0, api.Op{Kind: api.Drop}))
 	if two := must(t, d, asks(1, o)); two.Users[1].Seq != 2 {
 		t.Error(text(two))
 	}
@@ -146,7 +151,8 @@ func TestP311Calls(t *testing.T) {
 func TestP311Dies(t *testing.T) {
 	w := base(t)
 	w = must(t, w, leases(0, 2, api.Own, 0, 9, 5), writes(0, 2, 0, "ab"))
-	refused(t, w, turn(api.TurnFence, 0))
+	refused(t, w, turn(api.TurnFence, 0), turn(api.TurnFence, 1))
+	refused(t, must(t, w, asks(1, mk("/q")), turn(api.TurnServe, 1), turn(api.TurnDie, 1)), turn(api.TurnTell, 1))
 	d := must(t, w, turn(api.TurnDie, 0))
 	if u := d.Users[0]; !u.Dead || len(u.Mine)+len(u.Dirty) != 0 || len(d.Leases) != 1 {
 		t.Error(text(d))
@@ -274,6 +280,14 @@ func TestP311Writes(t *testing.T) {
 	if x := must(t, least, turn(api.TurnFlush, 0)); x.Did[len(x.Did)-1].Handle != 1 {
 		t.Error(text(x))
 	}
+	// another file, and another user, whose handles are less
+	w = must(t, base(t), call(1, mk("/other"))...)
+	w = must(t, w, call(1, open("/other", 0))...)
+	w = must(t, w, leases(1, 2, api.Own, 0, 9, 5), writes(1, 2, 3, "b"), turn(api.TurnFlush, 1))
+	if o := w.Did[len(w.Did)-1]; o.Client != 1 || o.Handle != 4 || string(w.F.S.Now.Nodes[1].Data) != "\x00\x00\x00b" {
+		t.Error(o)
+	}
+	w = must(t, base(t), leases(0, 2, api.Own, 3, 9, 5), leases(0, 2, api.Own, 30, 5000, 5))
 	full := must(t, late, call(1, api.Op{Kind: api.Limit, Path: "/", N: 9, M: 0})...)
 	refused(t, full, turn(api.TurnFlush, 0)) // the quota is passed
 	two := must(t, w, writes(0, 2, 3, "a"), writes(0, 2, 30, "b"), turn(api.TurnFlush, 0))
@@ -389,6 +403,17 @@ func TestP311Run(t *testing.T) {
 	}
 }
 
+// P31.1: of one world two may come to be, and it is as it was.
+func TestP311Apart(t *testing.T) {
+	w := base(t)
+	was := text(w)
+	a, _ := Do(w, asks(0, mk("/a")))
+	b, _ := Do(w, asks(1, mk("/b")))
+	if a.Hist[6].Client != 0 || b.Hist[6].Client != 1 || text(w) != was {
+		t.Error(a.Hist, b.Hist)
+	}
+}
+
 // someTurn is any turn, often one that may be.
 func someTurn(r *rand.Rand, w api.World) api.Turn {
 	t := api.Turn{Kind: 1 + r.Intn(16), User: r.Intn(len(w.Users)), N: 2 + r.Intn(3), M: 1 + r.Intn(2), From: r.Intn(20), Many: 1 + r.Intn(40)}
@@ -461,7 +486,15 @@ func walk(t *testing.T, seed int64, runs int, steps int, each func(r *rand.Rand,
 		}
 		for range steps {
 			x := someTurn(r, w)
+			looks := x.Kind == api.TurnSweep || x.Kind == api.TurnStore || r.Intn(20) == 0
+			before := ""
+			if looks {
+				before = text(w)
+			}
 			v, ok := Do(w, x)
+			if looks && text(w) != before {
+				t.Fatal("a world that was handed in is changed", x)
+			}
 			if ok {
 				done[x.Kind]++
 			}
