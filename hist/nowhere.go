@@ -20,23 +20,14 @@ type nowhere struct {
 }
 
 // newNowhere leaves aside calls that have not ended and alter nothing: whether they were done makes no difference to what may follow.
-func newNowhere(l []call) nowhere {
+func newNowhere(r row) nowhere {
 	n := nowhere{seen: map[key][]api.FS{}}
-	for i, c := range l {
-		if c.ended || !looks(c.op.Kind) {
+	for i, c := range r {
+		if c.ended || !c.still() {
 			n.counts |= 1 << i
 		}
 	}
 	return n
-}
-
-// looks: does an operation of a kind alter nothing?
-func looks(kind int) bool {
-	switch kind {
-	case api.Look, api.List, api.Stat, api.Read, api.Peek:
-		return true
-	}
-	return false
 }
 
 func (n nowhere) key(done uint64, f api.FS) key { return key{done & n.counts, mark(f)} }
