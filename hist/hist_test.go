@@ -282,12 +282,16 @@ func TestP301Snapshots(t *testing.T) {
 	if got, ok := Order(f, l); !ok || !slices.Equal(got, []int{0, 2, 1, 6}) {
 		t.Error(got, ok)
 	}
-	more := append(slices.Clone(l), begin(api.Op{Kind: api.Peek, Client: 3, N: 1, Path: "/f"}), end(3, api.Ans{Ino: 2, Kind: 1, N: 1}))
-	if got, ok := Order(f, more); !ok || !slices.Equal(got, []int{0, 2, 1, 6, 8}) {
+	between := slices.Concat(l[:6], []api.Event{begin(mk(4, "/x")), end(4, file(3))}, l[6:]) // so that the snapshots are asked later
+	if got, ok := Order(f, between); !ok || !slices.Equal(got, []int{0, 2, 1, 6, 8}) {
 		t.Error(got, ok)
 	}
-	more[9].Ans = api.Ans{Ino: 2, Kind: 1, N: 1, M: 1, Data: []byte{7}}
-	if got, ok := Order(f, more); !ok || !slices.Equal(got, []int{2, 0, 1, 6, 8}) {
+	more := append(slices.Clone(between), begin(api.Op{Kind: api.Peek, Client: 3, N: 1, Path: "/f"}), end(3, api.Ans{Ino: 2, Kind: 1, N: 1}))
+	if got, ok := Order(f, more); !ok || !slices.Equal(got, []int{0, 2, 1, 6, 8, 10}) {
+		t.Error(got, ok)
+	}
+	more[11].Ans = api.Ans{Ino: 2, Kind: 1, N: 1, M: 1, Data: []byte{7}}
+	if got, ok := Order(f, more); !ok || !slices.Equal(got, []int{2, 0, 1, 6, 8, 10}) {
 		t.Error(got, ok)
 	}
 }
@@ -296,16 +300,16 @@ func TestP301Snapshots(t *testing.T) {
 func TestP301Ends(t *testing.T) {
 	f := fs.New()
 	var l []api.Event
-	for c := range 9 {
+	for c := range 11 {
 		f, _ = fs.Do(f, mk(c, fmt.Sprint("/", c)))
 		f, _ = fs.Do(f, api.Op{Kind: api.Open, Client: c, Path: fmt.Sprint("/", c)})
 		l = append(l, begin(api.Op{Kind: api.Write, Client: c, Data: []byte{1}}))
 	}
-	for c := 9; c < 15; c++ {
+	for c := 11; c < 15; c++ {
 		l = append(l, begin(look(c, "/")))
 	}
 	l = append(l, begin(look(15, "/x")))
-	for c := range 9 {
+	for c := range 11 {
 		l = append(l, end(c, api.Ans{Ino: 2 + c, M: 1}))
 	}
 	if Fits(f, append(slices.Clone(l), end(15, file(2)))) || !Fits(f, append(slices.Clone(l), end(15, api.Ans{Err: api.ErrNone}))) {
