@@ -34,16 +34,21 @@ func deeds() map[int]func(*work) api.Ans {
 }
 
 // Do does an operation.
-func Do(f api.Fed, o api.Op) (after api.Fed, ans api.Ans) {
+func Do(f api.Fed, o api.Op) (api.Fed, api.Ans) {
+	do, ok := deeds()[o.Kind]
+	if !ok || o.Client < 0 || o.Client >= api.MaxClient {
+		return f, api.Ans{Err: api.ErrArg}
+	}
+	return done(f, o, do)
+}
+
+// done is a tree over pieces on which an operation was done, or, if an error left it, as it was.
+func done(f api.Fed, o api.Op, do func(*work) api.Ans) (after api.Fed, ans api.Ans) {
 	defer func() {
 		if left := recover(); left != nil {
 			after, ans = f, api.Ans{Err: acts.Told(left)}
 		}
 	}()
-	do, ok := deeds()[o.Kind]
-	if !ok || o.Client < 0 || o.Client >= api.MaxClient {
-		return f, api.Ans{Err: api.ErrArg}
-	}
 	w := &work{acts.Work{Now: Whole(f), Op: o}, f.Pieces}
 	ans = do(w)
 	w.tidy()

@@ -1,9 +1,6 @@
 package tree
 
-import (
-	"catacomb/api"
-	"catacomb/name"
-)
+import "catacomb/api"
 
 // named is how many entries name a node, and the directory of the last one.
 type named struct {
@@ -71,7 +68,7 @@ func rightEnts(t api.Tree, n api.Node) bool {
 	}
 	cookies := map[int]bool{}
 	for i, e := range n.Ents {
-		if !name.Right(e.Name) || i > 0 && n.Ents[i-1].Name >= e.Name {
+		if !rightName(e.Name) || i > 0 && n.Ents[i-1].Name >= e.Name {
 			return false
 		}
 		if e.Cookie < 1 || e.Cookie >= t.Cookie || cookies[e.Cookie] {
